@@ -177,8 +177,31 @@ func TestLeastOfThoseThatLieWithin(t *testing.T) {
 	wantEach(t, "q[^r = 1] = s = 1", "x(^yield 1, q = 1)", "(function (a) { ^let a = 1; break }); return", "while (^yield 1) { function f() { break } }", "{ while (x) { break } ^break } return", "if (^q = 1) break; else return", "function f(a) { return a } function g() { return ^q = 1 }")
 }
 
-// A name that two statements of one scope make, one of them an NConst: a set of it
-// is wrong wherever it stands, and counts where it stands first.
+// A name that is made twice in one scope is of what made it first: only where that is
+// an NConst a set of it is wrong, wherever it stands.
 func TestSetsOfNamesMadeTwice(t *testing.T) {
-	wantEach(t, "^a = 2; const a = 1; const a = 1", "^a = 2; const a = 1; let a = 1", "^a = 2; let a = 1; const a = 1", "^a = 2; function a() {} const a = 1", "function f(a) { ^a = 2; const a = 1 }", "try {} catch (a) { ^a = 2; const a = 1 }", "const a = 1; ^let a = 1; a = 2", "let a = 1; ^const a = 1; a = 2", "a = 2; let a = 1; ^let a = 1", "a = 2; let a = 1; ^function a() {}")
+	for _, again := range []string{"let a = 1;", "const a = 1;", "function a() {}", "function* a() {}"} {
+		wantEach(t, "^a = 2; const a = 1;"+again, "const a = 1; ^a = 2;"+again, "const a = 1; ^"+again+"a = 2", "{ ^a = 2 } const a = 1;"+again, "(function () { ^a = 2 }); const a = 1;"+again,
+			"function f(b) { ^a = 2; const a = 1;"+again+"}", "try { ^a = 2; const a = 1;"+again+"} catch (e) {}", "try {} catch (e) { ^a = 2; const a = 1;"+again+"}")
+	}
+	for _, first := range []string{"let a = 1;", "function a() {}", "function* a() {}"} {
+		for _, again := range []string{"^let a = 1;", "^const a = 1;", "^function a() {}", "^function* a() {}"} {
+			wantEach(t, "a = 2;"+first+again, first+"a = 2;"+again+"a = 2", first+again+"a = 2", "{ a = 2 }"+first+again, first+"{ a = 2 }"+again, "(function () { a = 2 });"+first+again,
+				"{"+first+"{ a = 2 }"+again+"}", "function f(b) { a = 2;"+first+again+"}", "try { a = 2;"+first+again+"} catch (e) {}", "try {} catch (e) { a = 2;"+first+again+"}",
+				"a = 2;"+first+again+"const a = 3; let a = 3", "let b = 1; const c = 1; a = 2;"+first+"const d = 1;"+again,
+				first+"{ let b = 1; { a = 2 } }"+again, "const a = 1; {"+first+"a = 2;"+again+"}", "const a = 1; { a = 2; { a = 2 }"+first+again+"}")
+		}
+	}
+}
+
+// A parameter and what a catch has stand ahead of all statements.
+func TestSetsOfNamesMadeAgain(t *testing.T) {
+	for _, again := range []string{"^let a = 1;", "^const a = 1;", "^function a() {}", "^function* a() {}"} {
+		wantEach(t, "function f(a) { a = 2;"+again+"}", "function* f(a) { a = 2;"+again+"a = 2 }", "(function (b, a) { { a = 2 }"+again+"})", "(function (a, b) { (function () { a = 2 });"+again+"})",
+			"try {} catch (a) { a = 2;"+again+"}", "try {} catch (a) {"+again+"a = 2 }", "try {} catch (a) { { let b = 1; a = 2 }"+again+"}", "try {} catch (a) { let b = 1; a = 2; const c = 1;"+again+"}",
+			"const a = 1; (function (a) { a = 2;"+again+"})", "const a = 1; try {} catch (a) { a = 2;"+again+"}")
+	}
+	wantEach(t, "^function f(a, a) { a = 2; const a = 1 }", "function f(a, b) { b = 2; a = 2; ^const b = 1; const a = 1 }",
+		"let b = 1; a = 2; let a = 1; ^const a = 1; const b = 1; b = 2", "let a = 1; { const a = 2; ^a = 3 } a = 4", "let a = 1; { const a = 2; { ^a = 3 } const a = 4 } const a = 5",
+		"let a = 1; { a = 3; let a = 2; ^const a = 2 } const a = 5", "let a = 1; { a = 2 } { const a = 3 } ^const a = 4", "const b = 1; let a = 1; a = 2; ^const a = 3; b = 4")
 }

@@ -28,7 +28,7 @@ type fault struct {
 
 // inside is what a second reading stands in.
 type inside struct {
-	names     []map[string]bool // of each scope around, the innermost one first; true: an NConst made it
+	names     []map[string]bool // of each scope around, the innermost one first; true: an NConst made it first
 	function  bool
 	generator bool
 	loop      bool
@@ -63,8 +63,9 @@ func (r *reading) scope(n api.Node, ahead ...string) map[string]bool {
 		}
 		if _, has := names[name]; has {
 			r.wrong(again, x.At)
+			continue
 		}
-		names[name] = names[name] || x.Kind == api.NConst
+		names[name] = x.Kind == api.NConst
 	}
 	return names
 }

@@ -29,7 +29,7 @@ type tree struct {
 	around []around
 	names  []int             // of each node that has a scope how many names, as far as they are counted
 	places []int             // of each node that makes a name the place that is its own
-	consts map[home]struct{} // those that an NConst has
+	consts map[home]struct{} // the NConsts' own places
 }
 
 // found goes from the last node to the first to find what lies around each: it
@@ -91,7 +91,8 @@ func (t *tree) kid(node, place int) (kid int, ok bool) {
 	return kids[place], true
 }
 
-// count gives the name that a node makes the next place of its scope.
+// count gives the name that a node makes the next place of its scope. An NConst that
+// makes a name again has a place, too, but no name is at home there.
 func (t *tree) count(node int) {
 	kind, in := t.nodes[node].Kind, t.around[node].scope
 	if !makes(kind) || in == none {
@@ -100,7 +101,7 @@ func (t *tree) count(node int) {
 	t.places[node] = t.names[in]
 	t.names[in]++
 	if kind == api.NConst {
-		t.consts[t.home(node)] = struct{}{}
+		t.consts[home{in, t.places[node]}] = struct{}{}
 	}
 }
 
@@ -109,9 +110,9 @@ func makes(kind int) bool {
 	return kind == api.NLet || kind == api.NConst || kind == api.NDef
 }
 
-// home tells where the name of a node has its value; of one that no scope has: none.
-func (t *tree) home(node int) home {
-	spot, in := t.spots[node], t.around[node].scope
+// home tells where the name of an NName has its value; of one that no scope has: none.
+func (t *tree) home(name int) home {
+	spot, in := t.spots[name], t.around[name].scope
 	if spot.Depth < 0 {
 		return home{scope: none}
 	}
